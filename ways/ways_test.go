@@ -13,22 +13,36 @@ import (
 // layer: what a layer's package declares outside of functions, by name.
 type layer map[string]ast.Node
 
-func read(t *testing.T, folder string) layer {
+// parsed: the files of a layer's package, but for its tests.
+func parsed(t *testing.T, set *token.FileSet, folder string) []*ast.File {
 	t.Helper()
-	files, err := filepath.Glob("../" + folder + "/*.go")
-	if err != nil || len(files) == 0 {
+	names, err := filepath.Glob("../" + folder + "/*.go")
+	if err != nil || len(names) == 0 {
 		t.Fatal(folder, err)
 	}
-	found := layer{}
-	for _, file := range files {
-		if strings.HasSuffix(file, "_test.go") {
+	var files []*ast.File
+	for _, name := range names {
+		if strings.HasSuffix(name, "_test.go") {
 			continue
 		}
-		parsed, err := parser.ParseFile(token.NewFileSet(), file, nil, 0)
+		file, err := parser.ParseFile(set, name, nil, 0)
 		if err != nil {
 			t.Fatal(err)
 		}
-		for _, d := range parsed.Decls {
+		files = append(files, file)
+	}
+	return files
+}
+
+func read(t *testing.T, folder string) layer {
+	t.Helper()
+	return layerOf(parsed(t, token.NewFileSet(), folder))
+}
+
+func layerOf(files []*ast.File) layer {
+	found := layer{}
+	for _, file := range files {
+		for _, d := range file.Decls {
 			found.add(d)
 		}
 	}
