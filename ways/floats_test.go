@@ -5,6 +5,7 @@ import (
 	"go/importer"
 	"go/token"
 	"go/types"
+	"strings"
 	"testing"
 )
 
@@ -16,17 +17,40 @@ type typed struct {
 	pack  *types.Package
 }
 
-// readTyped: of a package that imports the library's packages alone.
+// reader finds the packages that a package imports: the project's by their folders, the library's by their sources.
+type reader struct {
+	t       *testing.T
+	library types.Importer
+	read    map[string]typed
+}
+
+func (r reader) Import(path string) (*types.Package, error) {
+	folder, own := strings.CutPrefix(path, "diapason/")
+	if !own {
+		return r.library.Import(path)
+	}
+	return r.folder(folder).pack, nil
+}
+
+func (r reader) folder(folder string) typed {
+	r.t.Helper()
+	if read, ok := r.read[folder]; ok {
+		return read
+	}
+	set := token.NewFileSet()
+	read := typed{set: set, files: parsed(r.t, set, folder), info: &types.Info{Types: map[ast.Expr]types.TypeAndValue{}, Uses: map[*ast.Ident]types.Object{}}}
+	var err error
+	read.pack, err = (&types.Config{Importer: r}).Check("diapason/"+folder, set, read.files, read.info)
+	if err != nil {
+		r.t.Fatal(err)
+	}
+	r.read[folder] = read
+	return read
+}
+
 func readTyped(t *testing.T, folder string) typed {
 	t.Helper()
-	set := token.NewFileSet()
-	read := typed{set: set, files: parsed(t, set, folder), info: &types.Info{Types: map[ast.Expr]types.TypeAndValue{}, Uses: map[*ast.Ident]types.Object{}}}
-	var err error
-	read.pack, err = (&types.Config{Importer: importer.ForCompiler(set, "source", nil)}).Check("diapason/"+folder, set, read.files, read.info)
-	if err != nil {
-		t.Fatal(err)
-	}
-	return read
+	return reader{t, importer.ForCompiler(token.NewFileSet(), "source", nil), map[string]typed{}}.folder(folder)
 }
 
 func hasFlag(t types.Type, flag types.BasicInfo) bool {
@@ -123,16 +147,25 @@ func (p typed) looseProducts() []token.Position {
 	return loose
 }
 
-// Layer 3: all is done in floats.
-func TestAllIsDoneInFloats(t *testing.T) {
-	eft := readTyped(t, "eft")
-	for _, call := range []string{"Sum", "Split", "Prod", "Mild", "Scale", "Top"} {
-		found := false
-		for _, part := range layerOf(eft.files).reach(call) {
-			found = found || holds(part, eft.worksOutFloat)
-			if holds(part, eft.leavesFloats) {
-				t.Errorf("%s reaches what makes floats of other things, or other things of floats: %s", call, eft.set.Position(part.Pos()))
+// heldToFloats: of the calls' parts, none makes floats of other things, or other things of floats.
+func (p typed) heldToFloats(t *testing.T, calls ...string) {
+	t.Helper()
+	for _, call := range calls {
+		for _, part := range layerOf(p.files).reach(call) {
+			if holds(part, p.leavesFloats) {
+				t.Errorf("%s reaches what makes floats of other things, or other things of floats: %s", call, p.set.Position(part.Pos()))
 			}
+		}
+	}
+}
+
+// worksInFloats: each of the calls works something out of floats.
+func (p typed) worksInFloats(t *testing.T, calls ...string) {
+	t.Helper()
+	for _, call := range calls {
+		found := false
+		for _, part := range layerOf(p.files).reach(call) {
+			found = found || holds(part, p.worksOutFloat)
 		}
 		if !found {
 			t.Errorf("%s works nothing out of floats", call)
@@ -140,9 +173,61 @@ func TestAllIsDoneInFloats(t *testing.T) {
 	}
 }
 
+// Layer 3: all is done in floats.
+func TestAllIsDoneInFloats(t *testing.T) {
+	eft, calls := readTyped(t, "eft"), []string{"Sum", "Split", "Prod", "Mild", "Scale", "Top"}
+	eft.heldToFloats(t, calls...)
+	eft.worksInFloats(t, calls...)
+}
+
+// Layer 4: numbers are pairs of floats.
+func TestNumbersArePairsOfFloats(t *testing.T) {
+	dd := readTyped(t, "dd")
+	pair, ok := dd.pack.Scope().Lookup("Num").Type().Underlying().(*types.Struct)
+	if !ok || pair.NumFields() != 2 || !isFloat(pair.Field(0).Type()) || !isFloat(pair.Field(1).Type()) {
+		t.Errorf("Num is no pair of floats")
+	}
+	dd.heldToFloats(t, "New", "Add", "Neg", "Mul", "Quo", "Float", "Poly")
+	dd.worksInFloats(t, "Add", "Mul", "Quo", "Poly")
+}
+
+// goesThroughVariadic: is a function's last parameter a variadic one, which a loop of its own goes through?
+func goesThroughVariadic(n ast.Node) bool {
+	function, ok := n.(*ast.FuncDecl)
+	if !ok || len(function.Type.Params.List) == 0 {
+		return false
+	}
+	last := function.Type.Params.List[len(function.Type.Params.List)-1]
+	if _, ok := last.Type.(*ast.Ellipsis); !ok {
+		return false
+	}
+	named := func(n ast.Node) bool {
+		name, ok := n.(*ast.Ident)
+		return ok && name.Name == last.Names[0].Name
+	}
+	return holds(function.Body, func(n ast.Node) bool {
+		switch loop := n.(type) {
+		case *ast.RangeStmt:
+			return holds(loop.X, named)
+		case *ast.ForStmt:
+			return holds(loop.Body, named)
+		}
+		return false
+	})
+}
+
+// Layer 4: a polynomial's coefficients come in through a variadic function.
+func TestCoefficientsComeInThroughAVariadicFunction(t *testing.T) {
+	if !goesThroughVariadic(read(t, "dd")["Poly"]) {
+		t.Errorf("Poly goes through no coefficients that come in so")
+	}
+}
+
 // Rule 7: a product is a float64 of its own.
 func TestProductsAreNotFused(t *testing.T) {
-	for _, place := range readTyped(t, "eft").looseProducts() {
-		t.Errorf("a product that a sum may be fused with: %s", place)
+	for _, folder := range []string{"eft", "dd"} {
+		for _, place := range readTyped(t, folder).looseProducts() {
+			t.Errorf("a product that a sum may be fused with: %s", place)
+		}
 	}
 }
