@@ -225,7 +225,7 @@ func TestCoefficientsComeInThroughAVariadicFunction(t *testing.T) {
 
 // Rule 7: a product is a float64 of its own.
 func TestProductsAreNotFused(t *testing.T) {
-	for _, folder := range []string{"eft", "dd", "trig"} {
+	for _, folder := range []string{"eft", "dd", "trig", "cplx"} {
 		for _, place := range readTyped(t, folder).looseProducts() {
 			t.Errorf("a product that a sum may be fused with: %s", place)
 		}

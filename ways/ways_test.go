@@ -159,3 +159,28 @@ func TestBasesStandInAnArray(t *testing.T) {
 		}
 	}
 }
+
+// guardedByClosure: is a function's only list handed to a call together with a closure that is asked of its numbers?
+func guardedByClosure(n ast.Node) bool {
+	function, ok := n.(*ast.FuncDecl)
+	if !ok || len(function.Type.Params.List) != 1 || len(function.Type.Params.List[0].Names) != 1 {
+		return false
+	}
+	list := function.Type.Params.List[0].Names[0].Name
+	return holds(function.Body, func(n ast.Node) bool {
+		call, ok := n.(*ast.CallExpr)
+		if !ok || len(call.Args) != 2 {
+			return false
+		}
+		name, isName := call.Args[0].(*ast.Ident)
+		closure, isClosure := call.Args[1].(*ast.FuncLit)
+		return isName && name.Name == list && isClosure && len(closure.Type.Params.List) == 1
+	})
+}
+
+// Layer 6: a list is guarded by a closure.
+func TestListIsGuardedByAClosure(t *testing.T) {
+	if !guardedByClosure(read(t, "cplx")["Guard"]) {
+		t.Errorf("Guard hands its list to no closure")
+	}
+}
