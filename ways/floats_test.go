@@ -191,16 +191,23 @@ func TestNumbersArePairsOfFloats(t *testing.T) {
 	dd.worksInFloats(t, "Add", "Mul", "Quo", "Poly")
 }
 
-// goesThroughVariadic: is a function's last parameter a variadic one, which a loop of its own goes through?
-func goesThroughVariadic(n ast.Node) bool {
+// isVariadic: is a function's last parameter a variadic one?
+func isVariadic(n ast.Node) bool {
 	function, ok := n.(*ast.FuncDecl)
 	if !ok || len(function.Type.Params.List) == 0 {
 		return false
 	}
-	last := function.Type.Params.List[len(function.Type.Params.List)-1]
-	if _, ok := last.Type.(*ast.Ellipsis); !ok {
+	_, ok = function.Type.Params.List[len(function.Type.Params.List)-1].Type.(*ast.Ellipsis)
+	return ok
+}
+
+// goesThroughVariadic: is a function's last parameter a variadic one, which a loop of its own goes through?
+func goesThroughVariadic(n ast.Node) bool {
+	if !isVariadic(n) {
 		return false
 	}
+	function := n.(*ast.FuncDecl)
+	last := function.Type.Params.List[len(function.Type.Params.List)-1]
 	named := func(n ast.Node) bool {
 		name, ok := n.(*ast.Ident)
 		return ok && name.Name == last.Names[0].Name
